@@ -1,0 +1,1 @@
+"""Kinds of texts, and what deeds make of them."""
