@@ -136,3 +136,152 @@ EACH_WORD = [
     many(both(then(ANY_SIGN, ANY_SIGN), other_than(then(signs("0"), ALL)))),
     many(then(signs("0"), many(signs("1")))),
 ]
+
+
+def slow_end(machine, text):
+    """The state to which a text leads."""
+    state = 0
+    for sign in text:
+        state = machine[1][state]["01ab".find(sign)]
+    return state
+
+
+def accepted(machine, long):
+    """The list of all texts up to a length that a machine accepts, in the document's order."""
+    return [text for text in texts_up_to(long) if machine[0][slow_end(machine, text)] is True]
+
+
+def is_made_of_states(thing):
+    """Whether a thing is a machine of any number of states."""
+    ends, rows = thing
+    if (thing.__class__, ends.__class__, rows.__class__) != (tuple, tuple, tuple) or len(ends) != len(rows):
+        return False
+    right_rows = all(row.__class__ is tuple and len(row) == 4 for row in rows)
+    right_states = all(goal.__class__ is int and 0 <= goal < len(ends) for row in rows for goal in row)
+    return len(ends) > 0 and all(end.__class__ is bool for end in ends) and right_rows and right_states
+
+
+def reached_states(machine):
+    """All states that are reached, in the order of [2.2]."""
+    reached = [0]
+    for state in reached:
+        for goal in machine[1][state]:
+            if goal not in reached:
+                reached.append(goal)
+    return reached
+
+
+def unlike_pairs(machine):
+    """All pairs of states that some text tells apart."""
+    ends, rows = machine
+    states = range(len(ends))
+    unlike = {(one, other) for one in states for other in states if ends[one] != ends[other]}
+    while True:
+        more = {
+            (one, other) for one in states for other in states
+            if any(pair in unlike for pair in zip(rows[one], rows[other]))
+        }
+        if more <= unlike:
+            return unlike
+        unlike |= more
+
+
+def slow_least(machine):
+    """The least machine that accepts the same: of all like states the first one alone is kept."""
+    ends, rows = machine
+    unlike = unlike_pairs(machine)
+    first = [min(other for other in range(len(ends)) if (state, other) not in unlike) for state in range(len(ends))]
+    # Where the beginning is like another state, it is the first of them.
+    fewer = (ends, tuple(tuple(first[goal] for goal in row) for row in rows))
+    reached = reached_states(fewer)
+    return (
+        tuple(ends[state] for state in reached),
+        tuple(tuple(reached.index(goal) for goal in fewer[1][state]) for state in reached),
+    )
+
+
+def some_machine(source, states):
+    """A machine of so many states, most of them with some that are like others or never reached."""
+    share = source.choice([0.1, 0.3, 0.5, 0.9])
+    ends = tuple(source.random() < share for state in range(states))
+    # Goals that do not lie far make machines that are not all of one kind.
+    span = source.choice([1, 2, states])
+    rows = tuple(
+        tuple(min(states - 1, max(0, state + source.randint(-span, span))) for sign in SIGNS)
+        for state in range(states)
+    )
+    return ends, rows
+
+
+def some_machines(seed, states, size):
+    """So many machines, the same ones for the same seed."""
+    source = random.Random(seed)
+    return [some_machine(source, states) for number in range(size)]
+
+
+def shuffled(source, machine, more):
+    """A machine that accepts the same, with so many more states, in another order but for the first one."""
+    ends, rows = machine
+    samples = list(range(len(ends))) + [source.randrange(len(ends)) for state in range(more)]
+    tail = samples[1:]
+    source.shuffle(tail)
+    samples = samples[:1] + tail
+    places = {state: [place for place, sample in enumerate(samples) if sample == state] for state in range(len(ends))}
+    return (
+        tuple(ends[sample] for sample in samples),
+        tuple(tuple(source.choice(places[goal]) for goal in rows[sample]) for sample in samples),
+    )
+
+
+def counting(states, is_end):
+    """A machine that counts signs, in a round of so many states."""
+    return (
+        tuple(bool(is_end(state)) for state in range(states)),
+        tuple(((state + 1) % states,) * 4 for state in range(states)),
+    )
+
+
+def line(states, is_end):
+    """A machine that counts signs up to its last state, and stays there."""
+    return (
+        tuple(bool(is_end(state)) for state in range(states)),
+        tuple((min(state + 1, states - 1),) * 4 for state in range(states)),
+    )
+
+
+NOTHING = ((False,), ((0, 0, 0, 0),))
+EVERYTHING = ((True,), ((0, 0, 0, 0),))
+NO_SIGNS = ((True, False), ((1, 1, 1, 1), (1, 1, 1, 1)))
+SOME_SIGN = ((False, True), ((1, 1, 1, 1), (1, 1, 1, 1)))
+ONE_A = ((False, False, True), ((1, 1, 2, 1), (1, 1, 1, 1), (1, 1, 1, 1)))
+ONLY_A = ((True, False), ((1, 1, 0, 1), (1, 1, 1, 1)))
+ENDS_IN_B = ((False, True), ((0, 0, 0, 1), (0, 0, 0, 1)))
+# 0, 1b and a01: three texts, with a state that is never reached and would never end.
+THREE_TEXTS = (
+    (False, True, False, False, False, False, True),
+    ((1, 2, 3, 5), (5, 5, 5, 5), (5, 5, 5, 1), (4, 5, 5, 5), (5, 1, 5, 5), (5, 5, 5, 5), (6, 0, 6, 6)),
+)
+
+# The edges: one state, none accepted, all, finitely many, states that are like others or never reached.
+EACH_MACHINE = [
+    NOTHING,
+    EVERYTHING,
+    NO_SIGNS,
+    SOME_SIGN,
+    ONE_A,
+    ONLY_A,
+    ENDS_IN_B,
+    THREE_TEXTS,
+    ((False, True), ((0, 0, 0, 0), (0, 0, 0, 0))),
+    ((True, False), ((0, 0, 0, 0), (1, 1, 1, 1))),
+    ((True, True), ((1, 1, 1, 1), (0, 0, 0, 0))),
+    ((False, False, False), ((1, 2, 1, 2), (0, 0, 1, 1), (2, 2, 2, 2))),
+    ((True, False, False), ((2, 2, 2, 2), (1, 1, 1, 1), (1, 1, 1, 1))),
+    counting(2, lambda state: state == 1),
+    counting(6, lambda state: state % 2 == 0),
+    counting(40, lambda state: state == 39),
+    counting(41, lambda state: state == 2),
+    line(5, lambda state: state == 3),
+    line(5, lambda state: state < 4),
+    line(50, lambda state: state == 2),
+]

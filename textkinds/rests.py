@@ -1,6 +1,6 @@
 """What is left of a shape behind a sign, and where in a text a shape fits."""
 
-from textkinds.building import row_machine
+from textkinds.building import lost_state, row_machine
 from textkinds.errors import NoSign
 from textkinds.shapes import SIGNS, ends_of, inner_shapes, row_ends, rows_of, signs_in
 
@@ -210,9 +210,8 @@ def machines_needed(rows):
 
 def machine_firsts(machine):
     """The first signs of the texts that a least machine accepts."""
-    ends, rows = machine
-    # In a least machine a state that leads to no end leads to itself alone.
-    return "".join([sign for sign, goal in zip(SIGNS, rows[0]) if ends[goal] or rows[goal] != (goal,) * len(SIGNS)])
+    lost = lost_state(machine)
+    return "".join([sign for sign, goal in zip(SIGNS, machine[1][0]) if goal != lost])
 
 
 def row_firsts(row, firsts, empties):
