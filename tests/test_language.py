@@ -61,6 +61,28 @@ def own_attributes():
     return found
 
 
+def parents(tree):
+    """For each node that in which it stands."""
+    return {part: node for node in ast.walk(tree) for part in ast.iter_child_nodes(node)}
+
+
+def called(node):
+    """The name of what a node calls; None of all other nodes."""
+    return getattr(node.func, "id", getattr(node.func, "attr", None)) if isinstance(node, ast.Call) else None
+
+
+def is_set(node):
+    if isinstance(node, ast.BinOp):
+        return is_set(node.left) or is_set(node.right)
+    return isinstance(node, (ast.Set, ast.SetComp)) or called(node) in ("set", "frozenset")
+
+
+def given_names(node):
+    """All names that a def gives its parameters and locals."""
+    return {part.arg for part in ast.walk(node) if isinstance(part, ast.arg)} | {
+        part.id for part in ast.walk(node) if isinstance(part, ast.Name) and isinstance(part.ctx, ast.Store)}
+
+
 class Language(unittest.TestCase):
 
     def test_files(self):
@@ -140,6 +162,61 @@ class Language(unittest.TestCase):
         for name, node in nodes():
             if isinstance(node, ast.Compare) and any(isinstance(sign, (ast.Is, ast.IsNot)) for sign in node.ops):
                 self.assertTrue(all(isinstance(right, ast.Constant) for right in node.comparators), (name, node.lineno))
+
+    def test_no_local_is_called_like_an_import_or_a_class(self):
+        for name, tree in trees():
+            drawn = {alias.name for node in tree.body if isinstance(node, ast.ImportFrom) for alias in node.names}
+            drawn |= {node.name for node in tree.body if isinstance(node, ast.ClassDef)}
+            for node in tree.body:
+                if isinstance(node, (ast.FunctionDef, ast.ClassDef)):
+                    inner = {part.name for part in ast.walk(node) if isinstance(part, ast.FunctionDef)}
+                    self.assertEqual((given_names(node) | inner - {node.name}) & drawn, set(), (name, node.name))
+
+    def test_no_name_is_a_method_and_a_value(self):
+        methods = set()
+        for name, node in nodes():
+            if isinstance(node, ast.ClassDef):
+                methods |= {part.name for part in node.body if isinstance(part, ast.FunctionDef)}
+        for name, node in nodes():
+            if isinstance(node, ast.Attribute) and isinstance(node.ctx, ast.Store):
+                self.assertNotIn(node.attr, methods, (name, node.lineno))
+
+    def test_sets_are_asked_on_the_spot(self):
+        for name, tree in trees():
+            above = parents(tree)
+            for node in ast.walk(tree):
+                if is_set(node) and not is_set(above[node]):
+                    place = above[node]
+                    right = called(place) in ("sorted", "len") or isinstance(place, ast.Compare)
+                    kept = isinstance(place, ast.Assign) and isinstance(place.targets[0], ast.Name)
+                    self.assertTrue(right or kept and not isinstance(node, ast.BinOp), (name, node.lineno))
+
+    def test_walked_at_once(self):
+        within = ("list", "tuple", "dict", "sorted", "sum", "any", "all", "enumerate", "zip", "bytes", "min", "max", "join")
+        for name, tree in trees():
+            above = parents(tree)
+            for node in ast.walk(tree):
+                if called(node) in ("zip", "enumerate", "reversed", "range", "items", "keys", "values"):
+                    place = above[node]
+                    walked = isinstance(place, (ast.For, ast.comprehension)) and place.iter is node
+                    asked = isinstance(place, ast.Compare) and called(node) in ("range", "keys")
+                    turned = called(place) == "reversed" and called(node) == "range"
+                    self.assertTrue(walked or asked or turned or called(place) in within, (name, node.lineno))
+
+    def test_lambdas_on_one_row(self):
+        for name, tree in trees():
+            found = [node for node in ast.walk(tree) if isinstance(node, ast.Lambda)]
+            rows = [(node.lineno, tuple(part.arg for part in node.args.args)) for node in found]
+            self.assertEqual(len(rows), len(set(rows)), name)
+
+    def test_no_two_files_draw_from_one_another(self):
+        drawn = {name[:-3]: [node.module.split(".")[1] for node in tree.body if isinstance(node, ast.ImportFrom)]
+                 for name, tree in trees()}
+        for round_number in range(len(drawn)):
+            for name in [name for name, others in drawn.items() if not others]:
+                del drawn[name]
+            drawn = {name: [other for other in others if other in drawn] for name, others in drawn.items()}
+        self.assertEqual(drawn, {})
 
     def test_plain_values(self):
         for name, node in nodes():
