@@ -148,7 +148,13 @@ def slow_end(machine, text):
 
 def accepted(machine, long):
     """The list of all texts up to a length that a machine accepts, in the document's order."""
-    return [text for text in texts_up_to(long) if machine[0][slow_end(machine, text)] is True]
+    ends, rows = machine
+    told = []
+    level = [("", 0)]
+    for size in range(long + 1):
+        told += [text for text, state in level if ends[state] is True]
+        level = [(text + sign, rows[state][place]) for text, state in level for place, sign in enumerate(SIGNS)]
+    return told
 
 
 def is_made_of_states(thing):
@@ -284,4 +290,99 @@ EACH_MACHINE = [
     line(5, lambda state: state == 3),
     line(5, lambda state: state < 4),
     line(50, lambda state: state == 2),
+]
+
+
+def some_text(source, long):
+    """A text of up to so many signs."""
+    return "".join(source.choice(SIGNS) for place in range(source.randint(0, long)))
+
+
+def some_making(source, parts):
+    """A making of so many parts."""
+    if parts == 1:
+        return ("given", source.randrange(4)) if source.random() < 0.75 else ("text", some_text(source, 4))
+    word = source.choice(["turned", "taken", "dropped", "replaced", "then", "then", "then"] if parts > 2 else [
+        "turned", "taken", "dropped", "replaced"])
+    if word == "then":
+        first = source.randint(1, parts - 2)
+        return (word, some_making(source, first), some_making(source, parts - 1 - first))
+    inner = some_making(source, parts - 1)
+    if word == "turned":
+        return (word, inner)
+    if word == "replaced":
+        return (word, inner, source.choice(SIGNS), some_text(source, 4))
+    return (word, inner, source.randint(0, 6))
+
+
+def some_makings(seed, parts, size):
+    """So many makings, the same ones for the same seed."""
+    source = random.Random(seed)
+    return [some_making(source, parts) for number in range(size)]
+
+
+def slow_givens(making):
+    """The numbers of all givens, from left to right."""
+    if making[0] == "given":
+        return [making[1]]
+    return [number for part in making[1:] if isinstance(part, tuple) for number in slow_givens(part)]
+
+
+def deed_on_text(making, text):
+    """What the deed of a making of one makes of a text."""
+    if making[0] == "turned":
+        return "".join(reversed(text))
+    if making[0] == "taken":
+        return "".join(sign for place, sign in enumerate(text) if place < making[2])
+    if making[0] == "dropped":
+        return "".join(sign for place, sign in enumerate(text) if place >= making[2])
+    return "".join(making[3] if sign == making[2] else sign for sign in text)
+
+
+def slow_kind(making, kinds):
+    """The set of all texts that a making makes of sets of texts, each given each time any of its set."""
+    if making[0] == "given":
+        return set(kinds[making[1]])
+    if making[0] == "text":
+        return {making[1]}
+    if making[0] == "then":
+        others = slow_kind(making[2], kinds)
+        return {one + other for one in slow_kind(making[1], kinds) for other in others}
+    return {deed_on_text(making, text) for text in slow_kind(making[1], kinds)}
+
+
+def slow_value(making, givens):
+    """The text that a making makes of givens."""
+    (text,) = slow_kind(making, [{given} for given in givens])
+    return text
+
+
+# One making of each word at least, at the edges of its numbers and texts.
+EACH_MAKING = [
+    ("given", 0),
+    ("given", 3),
+    ("text", ""),
+    ("text", "0"),
+    ("text", "ab01"),
+    ("then", ("given", 0), ("given", 1)),
+    ("then", ("given", 1), ("given", 0)),
+    ("then", ("given", 2), ("given", 2)),
+    ("then", ("given", 0), ("text", "b")),
+    ("then", ("text", "a"), ("text", "a")),
+    ("turned", ("given", 1)),
+    ("turned", ("then", ("given", 0), ("text", "ab"))),
+    ("taken", ("given", 0), 0),
+    ("taken", ("given", 0), 6),
+    ("taken", ("then", ("given", 0), ("given", 1)), 2),
+    ("dropped", ("given", 0), 0),
+    ("dropped", ("given", 0), 6),
+    ("dropped", ("then", ("given", 0), ("given", 1)), 2),
+    ("replaced", ("given", 0), "a", ""),
+    ("replaced", ("given", 0), "a", "a"),
+    ("replaced", ("given", 0), "a", "b"),
+    ("replaced", ("given", 0), "1", "0110"),
+    ("replaced", ("then", ("given", 0), ("given", 1)), "b", "ab"),
+    ("then", ("taken", ("given", 0), 1), ("dropped", ("given", 0), 1)),
+    ("then", ("turned", ("given", 0)), ("given", 0)),
+    ("turned", ("dropped", ("turned", ("replaced", ("given", 3), "0", "1")), 3)),
 ]

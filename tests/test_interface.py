@@ -8,6 +8,7 @@ from tests.slow import EACH_MACHINE, EACH_WORD, ENDS_IN_B, THREE_TEXTS, line, si
 
 SHAPE = then(signs("01"), ("many", signs("ab")))
 LARGE = line(60, lambda state: state % 7 == 3)
+MAKING = ("then", ("turned", ("given", 1)), ("dropped", ("given", 0), 1))
 # Each function with things to hand in.
 CALLS = {
     "shapes": [("is_shape", (SHAPE,)), ("fits", (SHAPE, "0ab"))],
@@ -51,6 +52,35 @@ CALLS = {
         ("meeting", (LARGE, ENDS_IN_B)),
         ("unlike", (LARGE, THREE_TEXTS)),
         ("how_they_lie", (LARGE, THREE_TEXTS)),
+    ],
+    "deeds": [
+        ("text_taken", ("ab01", 2)),
+        ("text_dropped", ("ab01", 2)),
+        ("text_replaced", ("ab01", "a", "0a")),
+        ("taken", (THREE_TEXTS, 2)),
+        ("dropped", (THREE_TEXTS, 2)),
+        ("replaced", (THREE_TEXTS, "a", "0a")),
+        ("before_taken", (THREE_TEXTS, 2)),
+        ("before_dropped", (THREE_TEXTS, 2)),
+        ("before_replaced", (THREE_TEXTS, "a", "0a")),
+        ("before_turned", (THREE_TEXTS,)),
+        ("machine_of", (["a01", "0", "0"],)),
+        ("all_of", (3,)),
+        ("all_below", (3,)),
+        ("everything", ()),
+    ],
+    "makings": [
+        ("is_making", ([MAKING, [None, "a"]],)),
+        ("is_making", (MAKING,)),
+        ("is_single", (MAKING,)),
+        ("givens_of", (MAKING,)),
+        ("value", (MAKING, ["01", "ab"])),
+        ("kind_of", (MAKING, [THREE_TEXTS, ENDS_IN_B])),
+    ],
+    "wants": [
+        ("reaching", (MAKING, [THREE_TEXTS, ENDS_IN_B], ENDS_IN_B)),
+        ("failing", (MAKING, [THREE_TEXTS, ENDS_IN_B], LARGE)),
+        ("checked", (MAKING, [THREE_TEXTS, ENDS_IN_B], ENDS_IN_B)),
     ],
 }
 

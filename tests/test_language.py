@@ -181,6 +181,19 @@ class Language(unittest.TestCase):
             if isinstance(node, ast.Attribute) and isinstance(node.ctx, ast.Store):
                 self.assertNotIn(node.attr, methods, (name, node.lineno))
 
+    def test_methods_are_called_where_they_stand(self):
+        own = set()
+        for name, node in nodes():
+            if isinstance(node, ast.ClassDef):
+                own |= {part.name for part in node.body if isinstance(part, ast.FunctionDef)}
+        for name, tree in trees():
+            above = parents(tree)
+            for node in ast.walk(tree):
+                if isinstance(node, ast.Attribute) and node.attr in own | set(METHODS):
+                    place = above[node]
+                    right = isinstance(place, ast.Call) and place.func is node or isinstance(place, ast.keyword)
+                    self.assertTrue(right, (name, node.lineno))
+
     def test_sets_are_asked_on_the_spot(self):
         for name, tree in trees():
             above = parents(tree)

@@ -2,6 +2,10 @@
 
 A machine is a tuple (ends, rows): for each state whether a text may end there,
 and a tuple of the states to which the four signs lead from it. It begins at state 0.
+
+A web is a tuple (starts, ends, edges): it may begin at several states, and of each state it has a list
+of (column, goal), in which a sign's number may stand with several goals, or with none. It accepts a text
+if one of all ways comes to an end. So deed may follow on deed without growing much; a machine is made at last.
 """
 
 from textkinds.shapes import SIGNS
@@ -47,9 +51,9 @@ def first_text(start, step, is_end):
     return None
 
 
-def states_along(rows, text):
-    """All states that a text leads through, the first one too."""
-    states = [0]
+def states_along(rows, text, start=0):
+    """All states that a text leads through from the start, the first one too."""
+    states = [start]
     for sign in text:
         states.append(rows[states[-1]][SIGNS.index(sign)])
     return states
@@ -63,21 +67,29 @@ def comers(rows, column):
     return told
 
 
+def all_reached(some, onward):
+    """A dict of some states and of all to which steps lead from them: by how few. onward lists those next to each."""
+    reached = {state: 0 for state in some}
+    states = list(reached)
+    place = 0
+    while place < len(states):
+        state = states[place]
+        for goal in onward[state]:
+            if goal not in reached:
+                reached[goal] = reached[state] + 1
+                states.append(goal)
+        place += 1
+    return reached
+
+
 def distances(ends, rows, wanted):
     """For each state how many signs lead from it to the nearest one whose truth is as wanted; None, where none do."""
-    steps = [0 if end == wanted else None for end in ends]
-    reached = [state for state, end in enumerate(ends) if end == wanted]
-    backward = [comers(rows, column) for column in range(len(SIGNS))]
-    place = 0
-    while place < len(reached):
-        goal = reached[place]
-        for column in range(len(SIGNS)):
-            for state in backward[column][goal]:
-                if steps[state] is None:
-                    steps[state] = steps[goal] + 1
-                    reached.append(state)
-        place += 1
-    return steps
+    backward = [[] for row in rows]
+    for state, row in enumerate(rows):
+        for goal in row:
+            backward[goal].append(state)
+    reached = all_reached([state for state, end in enumerate(ends) if end == wanted], backward)
+    return [reached.get(state) for state in range(len(ends))]
 
 
 def numbered(marks):
@@ -229,6 +241,124 @@ def any_number(one):
 
     # The beginning is told from state 0 reached later on: only there no text at all will do.
     return built((True, (0,)), step, lambda key: key[0] or several.is_end(key[1]))
+
+
+def renumbered(web, numbers):
+    """The web with states numbered anew by a dict: those of one number become one, those of none are left out."""
+    starts, ends, edges = web
+    many = max(list(numbers.values()), default=-1) + 1
+    new_ends = [False] * many
+    new_edges = [{} for number in range(many)]
+    for state, number in numbers.items():
+        new_ends[number] = new_ends[number] or ends[state]
+        for column, goal in edges[state]:
+            if goal in numbers:
+                new_edges[number][(column, numbers[goal])] = True
+    new_starts = {numbers[start]: True for start in starts if start in numbers}
+    return list(new_starts), new_ends, [list(steps) for steps in new_edges]
+
+
+def goals_of(web):
+    """For each state of a web the list of those next to it."""
+    return [[goal for column, goal in steps] for steps in web[2]]
+
+
+def ways_to_ends(web):
+    """A dict of all states of a web from which a text is accepted: by how few signs."""
+    backward = turned_web(web)
+    return all_reached(backward[0], goals_of(backward))
+
+
+def useful(web):
+    """The web without states that are not reached, or from which no text is accepted."""
+    reached = all_reached(web[0], goals_of(web))
+    led = ways_to_ends(web)
+    kept = [state for state in range(len(web[1])) if state in reached and state in led]
+    return renumbered(web, {state: number for number, state in enumerate(kept)})
+
+
+def web_of(machine):
+    """A web that accepts what the machine does."""
+    ends, rows = least(machine[0], machine[1])
+    return useful(([0], list(ends), [list(enumerate(row)) for row in rows]))
+
+
+def spun(starts, steps, is_end):
+    """The web whose states are keys: those of a list, and all to which steps(key), a list of (column, key), lead."""
+    keys = list(starts)
+    numbers = {key: number for number, key in enumerate(keys)}
+    edges = []
+    while len(edges) < len(keys):
+        key = keys[len(edges)]
+        told = []
+        for column, goal in steps(key):
+            if goal not in numbers:
+                numbers[goal] = len(keys)
+                keys.append(goal)
+            told.append((column, numbers[goal]))
+        edges.append(told)
+    return list(range(len(starts))), [is_end(key) for key in keys], edges
+
+
+def turned_web(web):
+    """The web of the same texts turned about."""
+    starts, ends, edges = web
+    backward = [[] for steps in edges]
+    for state, steps in enumerate(edges):
+        for column, goal in steps:
+            backward[goal].append((column, state))
+    begins = {start: True for start in starts}
+    return [state for state, end in enumerate(ends) if end], [state in begins for state in range(len(ends))], backward
+
+
+def then_web(one, other):
+    """The web of a text of the one and behind it one of the other."""
+    starts, ends, edges = one
+    other_starts, other_ends, other_edges = other
+    further = [[(column, len(ends) + goal) for column, goal in steps] for steps in other_edges]
+    begun = [step for start in other_starts for step in further[start]]
+    may_end = any([other_ends[start] for start in other_starts])
+    new_edges = [steps + begun if end else steps for end, steps in zip(ends, edges)]
+    return useful((starts, [end and may_end for end in ends] + other_ends, new_edges + further))
+
+
+def merged(web):
+    """The web with all states as one that have the same ways ahead of them."""
+    # As in told_apart: a long chain would take a round for each state.
+    led = ways_to_ends(web)
+    blocks = numbered([led.get(state) for state in range(len(web[1]))])
+    many = 0
+    while max(blocks, default=-1) >= many:
+        many = max(blocks) + 1
+        ahead = [tuple(sorted({(column, blocks[goal]) for column, goal in steps})) for steps in web[2]]
+        blocks = numbered(list(zip(blocks, ahead)))
+    return renumbered(web, {state: block for state, block in enumerate(blocks)})
+
+
+def narrowed(web):
+    """The web with all states as one that have the same ways ahead of them or behind them, again and again."""
+    fewer = turned_web(merged(turned_web(merged(web))))
+    while len(fewer[1]) < len(web[1]):
+        web = fewer
+        fewer = turned_web(merged(turned_web(merged(web))))
+    return fewer
+
+
+def machine_by(web):
+    """The least machine that accepts what the web does."""
+    starts, ends, edges = web
+    goals = [[[goal for place, goal in steps if place == column] for column in range(len(SIGNS))] for steps in edges]
+    # From such a state all texts are accepted, so others beside it would only make more keys.
+    full = [end and all([state in row for row in goals[state]]) for state, end in enumerate(ends)]
+
+    def key_of(some):
+        alone = [state for state in some if full[state]]
+        return tuple(alone[:1] if alone else some)
+
+    def step(states, column):
+        return key_of(sorted({goal for state in states for goal in goals[state][column]}))
+
+    return built(key_of(sorted(starts)), step, lambda states: any([ends[state] for state in states]))
 
 
 def one_sign(some):

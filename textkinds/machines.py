@@ -20,12 +20,12 @@ def is_machine(thing):
 
 def is_row(row, many):
     """Whether a thing is a tuple of four numbers of so many states."""
-    return isinstance(row, tuple) and len(row) == len(SIGNS) and all([is_state(state, many) for state in row])
+    return isinstance(row, tuple) and len(row) == len(SIGNS) and all([is_below(state, many) for state in row])
 
 
-def is_state(state, many):
-    """Whether a thing is a number of so many states."""
-    return isinstance(state, int) and not isinstance(state, bool) and 0 <= state < many
+def is_below(thing, bound):
+    """Whether a thing is a whole number from 0 on, below the bound."""
+    return isinstance(thing, int) and not isinstance(thing, bool) and 0 <= thing < bound
 
 
 def accepts(machine, text):

@@ -8,15 +8,23 @@ INNER = {"none": 0, "empty": 0, "signs": 0, "then": 2, "or": 2, "and": 2, "not":
 
 def is_shape(thing):
     """Whether any thing is a shape of at most 15 parts."""
+    return has_parts(thing, MOST_PARTS, has_form, inner_shapes)
+
+
+def has_parts(thing, most, is_part, inner_parts):
+    """Whether any thing is put together of so many parts at most, and is_part(part) holds of each.
+
+    inner_parts(part) tells the list of what stands in a part in the stead of others.
+    """
     waiting = [thing]
     many = 0
     while waiting:
         part = waiting.pop()
         many += 1
         # Asked at each part: a tuple that holds one thing twice, deep down, has too many parts to count them all.
-        if many > MOST_PARTS or not has_form(part):
+        if many > most or not is_part(part):
             return False
-        waiting.extend(inner_shapes(part))
+        waiting.extend(inner_parts(part))
     return True
 
 
@@ -47,26 +55,31 @@ def inner_shapes(shape):
 
 
 def rows_of(shape):
-    """All parts of a shape as rows: its tuple, with the numbers of the rows of its inner shapes in their stead.
+    """All parts of a shape as rows, as rows_by tells them."""
+    return rows_by(shape, inner_shapes)
 
-    Each row stands behind those that it names, like parts are one row, and the shape itself is the last one.
+
+def rows_by(whole, inner_parts):
+    """All parts of a whole as rows: its tuple, with the numbers of the rows of its inner parts in their stead.
+
+    Each row stands behind those that it names, like parts are one row, and the whole itself is the last one.
+    inner_parts(part) tells the list of the parts that stand in the tuple of a part, straight behind its word.
     """
     rows = []
     numbers = {}
     finished = []
-    # A list of what is still to do, for told shapes may be deeper than calls may be.
-    waiting = [(shape, False)]
+    # A list of what is still to do, for what is told may be deeper than calls may be.
+    waiting = [(whole, False)]
     while waiting:
         part, inner_finished = waiting.pop()
-        inner = inner_shapes(part)
+        inner = inner_parts(part)
         if inner and not inner_finished:
             waiting.append((part, True))
             waiting.extend([(one, False) for one in reversed(inner)])
             continue
-        row = part
-        if inner:
-            row = (part[0],) + tuple(finished[-len(inner):])
-            del finished[-len(inner):]
+        first = len(finished) - len(inner)
+        row = part[:1] + tuple(finished[first:]) + part[1 + len(inner):]
+        del finished[first:]
         if row not in numbers:
             numbers[row] = len(rows)
             rows.append(row)
