@@ -82,6 +82,9 @@ CALLS = {
         ("failing", (MAKING, [THREE_TEXTS, ENDS_IN_B], LARGE)),
         ("checked", (MAKING, [THREE_TEXTS, ENDS_IN_B], ENDS_IN_B)),
     ],
+    "drawing": [("shape_of", (THREE_TEXTS,))],
+    "writing": [("written", (SHAPE,))],
+    "reading": [("read", ("(*[01] (a|!b))",))],
 }
 
 
